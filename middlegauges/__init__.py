@@ -1,0 +1,1 @@
+"""Middlegauges: what gauges can show by rules on two of them."""
