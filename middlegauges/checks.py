@@ -3,7 +3,8 @@
 The functions fits_.. take gauges as checked and any value; the functions check_.. raise.
 """
 
-from middlegauges.errors import InvalidBook, InvalidBound, InvalidCount, InvalidReadings, InvalidRule
+from middlegauges.errors import InvalidBook, InvalidBound, InvalidChoice, InvalidCount, InvalidGauge, InvalidNumber
+from middlegauges.errors import InvalidReadings, InvalidRule, InvalidWay
 
 MOST_GAUGES = 5
 
@@ -94,10 +95,46 @@ def fits_part(gauges, value):
     return all([shown is None or is_integer(shown) for shown in value])
 
 
+def fits_open_gauges(gauges, value):
+    """Whether any value is an ascending tuple of one or more gauges, no gauge twice."""
+    if not is_tuple(value) or len(value) == 0 or not all([fits_gauge(gauges, gauge) for gauge in value]):
+        return False
+    return all([gauge < other_gauge for gauge, other_gauge in zip(value, value[1:])])
+
+
+def fits_seen(gauges, value):
+    """Whether any value is a list of one or more readings."""
+    return type(value) == list and len(value) > 0 and all([fits_readings(gauges, readings) for readings in value])
+
+
 def check_gauges(gauges):
     """InvalidCount unless gauges is an integer from 1 to 5."""
     if not is_integer(gauges) or not 1 <= gauges <= MOST_GAUGES:
         raise InvalidCount("gauges is no integer from 1 to 5")
+
+
+def check_gauge(gauges, gauge):
+    """InvalidGauge unless gauge is one."""
+    if not fits_gauge(gauges, gauge):
+        raise InvalidGauge("the gauge is none of these")
+
+
+def check_other_gauge(gauges, gauge, other_gauge):
+    """InvalidGauge unless other_gauge is a gauge, and another one than gauge."""
+    if not fits_gauge(gauges, other_gauge) or other_gauge == gauge:
+        raise InvalidGauge("the other gauge is none of these, or the same one")
+
+
+def check_way(way):
+    """InvalidWay unless way is one."""
+    if not fits_way(way):
+        raise InvalidWay("the way is neither least nor most")
+
+
+def check_number(number):
+    """InvalidNumber unless number is an integer."""
+    if not is_integer(number):
+        raise InvalidNumber("the number is no integer")
 
 
 def check_bound(gauges, bound):
@@ -128,3 +165,21 @@ def check_readings(gauges, readings):
     """InvalidReadings unless readings are some."""
     if not fits_readings(gauges, readings):
         raise InvalidReadings("the readings are no tuple with an integer for each gauge")
+
+
+def check_part(gauges, part):
+    """InvalidReadings unless part is a part of readings."""
+    if not fits_part(gauges, part):
+        raise InvalidReadings("the part is no tuple with an integer or None for each gauge")
+
+
+def check_open_gauges(gauges, open_gauges):
+    """InvalidChoice unless open_gauges is an ascending tuple of gauges."""
+    if not fits_open_gauges(gauges, open_gauges):
+        raise InvalidChoice("the open gauges are no ascending tuple of gauges")
+
+
+def check_seen(gauges, seen):
+    """InvalidChoice unless seen is a list of readings."""
+    if not fits_seen(gauges, seen):
+        raise InvalidChoice("what was seen is no list of one or more readings")

@@ -41,13 +41,19 @@ def clash(gauges, book, bound):
     found = find_ring(gauges, book)
     if found is not None:
         return ("ring", found)
+    steps = clash_steps(gauges, book, bound)
+    return None if steps is None else ("oppose", steps)
+
+
+def clash_steps(gauges, book, bound):
+    """The steps of a clash of a bound in a book without rings, None if it does not clash."""
     sharpest = sharpest_to_come(book, (bound,))
     gauge = opposed_gauge(gauges, sharpest)
     if gauge is None:
         return None
     _, low_steps = sharpest[(gauge, "least")]
     _, high_steps = sharpest[(gauge, "most")]
-    return ("oppose", low_steps + high_steps)
+    return low_steps + high_steps
 
 
 def places(gauges):

@@ -12,7 +12,7 @@ WAYS = ("least", "most")
 
 BIG = 10 ** 30
 
-# No kind of value that is asked for anywhere in stage 1: wrong for each parameter.
+# Wrong for each parameter, but for "least", which is a way, and None, which is no part at all.
 NOTHING_KNOWN = (None, True, False, "", "least", "bound", "a >= 5", [], [1, 2], [[[]]], InvalidCount("an object"),
                  (None,), ((),), ("bound",), ("least",), (True, False), (0, "least"))
 
@@ -259,3 +259,23 @@ def boxed(gauges, book, size):
     """A book with bound rules behind it by which each gauge shows a number from -size to size."""
     sides = [("bound", (gauge, way, end)) for gauge in range(gauges) for way, end in (("least", -size), ("most", size))]
     return (*book, *sides)
+
+
+# Of two gauges; 0 and 1 are gauges.
+WRONG_GAUGES = (*NOTHING_KNOWN, 2, 5, -1, BIG, -BIG, "0", (0,), [0], ("0",), (0, 1))
+
+WRONG_WAYS = (*[value for value in NOTHING_KNOWN if value != "least"], 0, 1, "Least", "mos", "most ", " most",
+              "leastmost", "greatest", ("most",), ["least"], ("least", "most"))
+
+WRONG_NUMBERS = (*NOTHING_KNOWN, "5", "0", (5,), [5], (0, "least", 5))
+
+# Of two gauges; None stands for nothing filled in.
+WRONG_PARTS = (*[value for value in NOTHING_KNOWN if value is not None], 0, (), (1,), (None,), (1, 2, 3), [1, 2],
+               (None, None, None), [None, None], (1, True), (False, None), (None, "2"), ((1, 2),), (None, (2,)), "12")
+
+WRONG_CHOICES = (*NOTHING_KNOWN, 0, 1, (), (0, 0), (1, 0), (0, 1, 1), (0, 2), (2,), (-1, 0), (-1,), [0], [0, 1], "01",
+                 ((0,),), ((0, 1),), (0, None), (True,), (False,), (0, True), ("0",), (0, "1"), (BIG,))
+
+WRONG_SEEN = (*NOTHING_KNOWN, 0, (), (1, 2), ((1, 2),), ((1, 2), (3, 4)), [()], [(1, 2), ()], [(1, 2), (1,)],
+              [(1, 2), [3, 4]], [[1, 2]], [(1, None)], [(1, 2), (None, None)], [(True, 2)], [(1, 2, 3)],
+              [(1, 2), None], [((1, 2),)], ["12"], [("1", 2)], [[(1, 2)]])

@@ -5,14 +5,26 @@ import inspect
 import unittest
 from itertools import combinations
 
-from middlegauges.errors import InvalidBook, InvalidBound, InvalidCount, InvalidReadings, InvalidRule
+from middlegauges.books import alike, counter, covered, essence, follows, learned, needless, parting
+from middlegauges.errors import (
+    InvalidBook, InvalidBound, InvalidChoice, InvalidCount, InvalidGauge, InvalidNumber, InvalidReadings, InvalidRule,
+    InvalidWay, Unkeepable)
 from middlegauges.following import brought, clash, forced, ring
+from middlegauges.keeping import blame, can_be, keepable, kept, paper
 from middlegauges.rules import broken, contrary, holds, is_book, is_bound, is_part, is_readings, is_rule, middle
+from middlegauges.spans import nearest, shows, span
+from middlegauges.stairs import corners, extremes, stair
 
 from tests.samples import (
-    RIGHT_RULES, WRONG_BOOKS, WRONG_BOUND_ROWS, WRONG_BOUNDS, WRONG_COUNTS, WRONG_READINGS, WRONG_RULES)
+    RIGHT_RULES, WRONG_BOOKS, WRONG_BOUND_ROWS, WRONG_BOUNDS, WRONG_CHOICES, WRONG_COUNTS, WRONG_GAUGES, WRONG_NUMBERS,
+    WRONG_PARTS, WRONG_READINGS, WRONG_RULES, WRONG_SEEN, WRONG_WAYS)
 
-# By name: the error, right values for two gauges, wrong values.
+# The second one of [7], with a rule of each kind in all.
+KEEPABLE = (("either", (0, "most", 3), (1, "least", 10)), ("either", (0, "most", 3), (0, "least", 8)),
+            ("apart", 0, 1, 0), ("sum", 0, 1, "most", 60), ("bound", (0, "least", -10 ** 6)))
+UNKEEPABLE = ((("apart", 0, 1, -2), ("apart", 1, 0, 1)), (("bound", (0, "least", 1)), ("bound", (0, "most", 0))))
+
+# By name: the error, right values for two gauges, wrong values. The right ones with the same index fit each other.
 PARAMETERS = {
     "gauges": (InvalidCount, (2,), WRONG_COUNTS),
     "bound": (InvalidBound, ((0, "least", 5), (1, "most", -4)), WRONG_BOUNDS),
@@ -23,6 +35,16 @@ PARAMETERS = {
     "first": (InvalidReadings, ((3, -4),), WRONG_READINGS),
     "second": (InvalidReadings, ((1, 10 ** 20),), WRONG_READINGS),
     "third": (InvalidReadings, ((2, 0),), WRONG_READINGS),
+    "gauge": (InvalidGauge, (0, 1), WRONG_GAUGES),
+    "other_gauge": (InvalidGauge, (1, 0), WRONG_GAUGES),
+    "way": (InvalidWay, ("least", "most"), WRONG_WAYS),
+    "other_way": (InvalidWay, ("most", "least", "least", "most"), WRONG_WAYS),
+    "number": (InvalidNumber, (5, -4, 0, 10 ** 30), WRONG_NUMBERS),
+    "part": (InvalidReadings, (None, (None, None), (3, None), (3, -4)), WRONG_PARTS),
+    "one": (InvalidBook, (KEEPABLE, (), UNKEEPABLE[0], RIGHT_RULES), WRONG_BOOKS),
+    "other": (InvalidBook, ((), KEEPABLE, KEEPABLE, UNKEEPABLE[1]), WRONG_BOOKS),
+    "open_gauges": (InvalidChoice, ((0,), (1,), (0, 1)), WRONG_CHOICES),
+    "seen": (InvalidChoice, ([(1, 2)], [(1, 2), (3, -4), (10 ** 12, 0)]), WRONG_SEEN),
     "value": (None, (None, [1, [2]], (0, "least", 5), (1, 2), RIGHT_RULES), ()),
 }
 
@@ -31,15 +53,37 @@ SIGNATURES = (
     (is_readings, ("gauges", "value")), (is_part, ("gauges", "value")), (contrary, ("gauges", "bound")),
     (holds, ("gauges", "rule", "readings")), (broken, ("gauges", "book", "readings")),
     (middle, ("gauges", "first", "second", "third")), (forced, ("gauges", "rule", "bound")),
+    (keepable, ("gauges", "book")), (paper, ("gauges", "book")), (kept, ("gauges", "book", "part")),
+    (can_be, ("gauges", "book", "bounds")), (blame, ("gauges", "book", "bounds")),
+    (span, ("gauges", "book", "gauge")), (shows, ("gauges", "book", "gauge", "number")),
+    (nearest, ("gauges", "book", "gauge", "number")), (extremes, ("gauges", "book", "gauge", "other_gauge")),
+    (stair, ("gauges", "book", "bound", "other_gauge", "other_way")),
+    (corners, ("gauges", "book", "gauge", "way", "other_gauge", "other_way")),
+    (follows, ("gauges", "book", "rule")), (counter, ("gauges", "book", "rule")),
+    (alike, ("gauges", "one", "other")), (parting, ("gauges", "one", "other")), (needless, ("gauges", "book")),
+    (essence, ("gauges", "book")), (covered, ("gauges", "book", "open_gauges")), (learned, ("gauges", "seen")),
     (ring, ("gauges", "book")), (brought, ("gauges", "book", "bounds")), (clash, ("gauges", "book", "bound")),
 )
 
 BY_NAME_ONLY = {middle: ("first", "second", "third")}
 
+# They raise Unkeepable for a book that is not keepable.
+OF_KEEPABLE_BOOKS = (span, shows, nearest, extremes, stair, corners)
 
-def right_arguments(names, turn=0):
+FILES = {
+    "rules": (is_bound, is_rule, is_book, is_readings, is_part, contrary, holds, broken, middle),
+    "following": (forced, ring, brought, clash), "keeping": (keepable, paper, kept, can_be, blame),
+    "spans": (span, shows, nearest), "stairs": (extremes, stair, corners),
+    "books": (follows, counter, alike, parting, needless, essence, covered, learned),
+}
+
+
+def right_arguments(function, names, turn=0):
     """Right values by name; a turn picks others."""
-    return {name: PARAMETERS[name][1][turn % len(PARAMETERS[name][1])] for name in names}
+    right = {name: PARAMETERS[name][1][turn % len(PARAMETERS[name][1])] for name in names}
+    if function in OF_KEEPABLE_BOOKS:
+        right["book"] = (KEEPABLE, (), KEEPABLE[:3])[turn % 3]
+    return right
 
 
 def call_by_position(function, names, arguments):
@@ -66,16 +110,17 @@ class Conventions(unittest.TestCase):
             self.assertEqual(tuple(inspect.signature(function).parameters), names)
 
     def test_each_function_is_defined_in_its_file(self):
-        for function, _ in SIGNATURES:
-            module = "following" if function in (forced, ring, brought, clash) else "rules"
-            self.assertEqual(function.__module__, f"middlegauges.{module}")
+        for module, functions in FILES.items():
+            for function in functions:
+                self.assertEqual(function.__module__, f"middlegauges.{module}")
+        self.assertEqual(sum(map(len, FILES.values())), len(SIGNATURES))
 
     def test_each_parameter_wrong_by_itself(self):
         for function, names in SIGNATURES:
             for name in names:
                 error, _, wrong = PARAMETERS[name]
                 for turn, value in enumerate(wrong):
-                    self.check_error(function, names, {**right_arguments(names, turn), name: value}, error)
+                    self.check_error(function, names, {**right_arguments(function, names, turn), name: value}, error)
 
     def test_of_several_the_first_in_the_signature_is_told(self):
         for function, names in SIGNATURES:
@@ -87,11 +132,46 @@ class Conventions(unittest.TestCase):
                 self.check_wrong(function, names, names, turn=0)
 
     def check_wrong(self, function, names, chosen, turn):
-        arguments = right_arguments(names, turn)
+        arguments = right_arguments(function, names, turn)
         for name in chosen:
             wrong = PARAMETERS[name][2]
             arguments[name] = wrong[(7 * turn + len(name)) % len(wrong)]
         self.check_error(function, names, arguments, PARAMETERS[chosen[0]][0])
+
+    def test_other_gauge_is_another_one(self):
+        for turn in range(12):
+            for function in (extremes, corners, stair):
+                names = dict(SIGNATURES)[function]
+                right = right_arguments(function, names, turn)
+                same = right["bound"][0] if "bound" in right else right["gauge"]
+                self.check_error(function, names, {**right, "other_gauge": same}, InvalidGauge)
+                wrong = {**right, "other_gauge": same, "book": UNKEEPABLE[turn % 2], "other_way": "more"}
+                self.check_error(function, names, {name: wrong[name] for name in names}, InvalidGauge)
+
+    def test_unkeepable_behind_the_errors_about_parameters(self):
+        for function in OF_KEEPABLE_BOOKS:
+            names = dict(SIGNATURES)[function]
+            for turn in range(12):
+                arguments = {**right_arguments(function, names, turn), "book": UNKEEPABLE[turn % 2]}
+                self.check_error(function, names, arguments, Unkeepable)
+                for name in names:
+                    wrong = PARAMETERS[name][2]
+                    bad = {**arguments, name: wrong[(5 * turn) % len(wrong)]}
+                    self.check_error(function, names, bad, PARAMETERS[name][0])
+
+    def test_no_part_is_taken_as_none(self):
+        self.assertIsNone(inspect.signature(kept).parameters["part"].default)
+        self.assertEqual(kept(2, KEEPABLE), kept(2, KEEPABLE, part=None))
+
+    def test_a_changed_result_changes_no_later_one(self):
+        for function, names in SIGNATURES:
+            for turn in range(12):
+                arguments = right_arguments(function, names, turn)
+                told = call_by_name(function, names, arguments)
+                if type(told) is list:
+                    before = repr(told)
+                    told.append("more")
+                    self.assertEqual(repr(call_by_name(function, names, arguments)), before)
 
     def test_what_fits_more_gauges_does_not_fit_less(self):
         wrong = (
@@ -110,7 +190,7 @@ class Conventions(unittest.TestCase):
     def test_by_position_and_by_name_tell_the_same_and_change_nothing(self):
         for function, names in SIGNATURES:
             for turn in range(12):
-                arguments = right_arguments(names, turn)
+                arguments = right_arguments(function, names, turn)
                 before = copy.deepcopy(arguments)
                 told = call_by_position(function, names, arguments)
                 self.assertEqual(told, call_by_name(function, names, arguments))
@@ -119,7 +199,7 @@ class Conventions(unittest.TestCase):
     def test_equal_arguments_give_equal_results(self):
         for function, names in SIGNATURES:
             for turn in range(12):
-                arguments = right_arguments(names, turn)
+                arguments = right_arguments(function, names, turn)
                 told = call_by_position(function, names, arguments)
                 again = call_by_position(function, names, copy.deepcopy(arguments))
                 self.assertEqual(repr(told), repr(again))
