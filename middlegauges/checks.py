@@ -3,8 +3,8 @@
 The functions fits_.. take gauges as checked and any value; the functions check_.. raise.
 """
 
-from middlegauges.errors import InvalidBook, InvalidBound, InvalidChoice, InvalidCount, InvalidGauge, InvalidNumber
-from middlegauges.errors import InvalidReadings, InvalidRule, InvalidWay
+from middlegauges.errors import InvalidBook, InvalidBound, InvalidChoice, InvalidCount, InvalidGauge, InvalidMove
+from middlegauges.errors import InvalidNumber, InvalidReadings, InvalidRule, InvalidWay
 
 MOST_GAUGES = 5
 
@@ -183,3 +183,9 @@ def check_seen(gauges, seen):
     """InvalidChoice unless seen is a list of readings."""
     if not fits_seen(gauges, seen):
         raise InvalidChoice("what was seen is no list of one or more readings")
+
+
+def check_move(gauges, move):
+    """InvalidMove unless move is a tuple with an integer for each gauge."""
+    if not fits_readings(gauges, move):
+        raise InvalidMove("the move is no tuple with an integer for each gauge")

@@ -14,6 +14,7 @@ from middlegauges.keeping import blame, can_be, keepable, kept, paper
 from middlegauges.rules import broken, contrary, holds, is_book, is_bound, is_part, is_readings, is_rule, middle
 from middlegauges.spans import nearest, shows, span
 from middlegauges.stairs import corners, extremes, stair
+from middlegauges.words import read_book, read_part, read_rule, write_book, write_part, write_rule
 
 from tests.samples import (
     RIGHT_RULES, WRONG_BOOKS, WRONG_BOUND_ROWS, WRONG_BOUNDS, WRONG_CHOICES, WRONG_COUNTS, WRONG_GAUGES, WRONG_NUMBERS,
@@ -46,6 +47,15 @@ PARAMETERS = {
     "open_gauges": (InvalidChoice, ((0,), (1,), (0, 1)), WRONG_CHOICES),
     "seen": (InvalidChoice, ([(1, 2)], [(1, 2), (3, -4), (10 ** 12, 0)]), WRONG_SEEN),
     "value": (None, (None, [1, [2]], (0, "least", 5), (1, 2), RIGHT_RULES), ()),
+    "words": (None, ("a >= 5",), ()),
+}
+
+# Right values of some functions, where those of PARAMETERS do not fit them.
+OWN_VALUES = {
+    read_book: {"words": ("-", "a >= 5", "a <= b - 3 and either a <= 3 or b >= 10")},
+    read_part: {"words": ("- -", "3 -", "3 -4")},
+    read_rule: {"words": ("a >= 5", "a <= b - 3", "a + b <= -7", "either a <= 3 or b >= 10")},
+    write_part: {"part": ((None, None), (3, None), (3, -4))},
 }
 
 SIGNATURES = (
@@ -63,6 +73,8 @@ SIGNATURES = (
     (alike, ("gauges", "one", "other")), (parting, ("gauges", "one", "other")), (needless, ("gauges", "book")),
     (essence, ("gauges", "book")), (covered, ("gauges", "book", "open_gauges")), (learned, ("gauges", "seen")),
     (ring, ("gauges", "book")), (brought, ("gauges", "book", "bounds")), (clash, ("gauges", "book", "bound")),
+    (write_rule, ("gauges", "rule")), (read_rule, ("gauges", "words")), (write_book, ("gauges", "book")),
+    (read_book, ("gauges", "words")), (write_part, ("gauges", "part")), (read_part, ("gauges", "words")),
 )
 
 BY_NAME_ONLY = {middle: ("first", "second", "third")}
@@ -75,12 +87,15 @@ FILES = {
     "following": (forced, ring, brought, clash), "keeping": (keepable, paper, kept, can_be, blame),
     "spans": (span, shows, nearest), "stairs": (extremes, stair, corners),
     "books": (follows, counter, alike, parting, needless, essence, covered, learned),
+    "words": (write_rule, read_rule, write_book, read_book, write_part, read_part),
 }
 
 
 def right_arguments(function, names, turn=0):
     """Right values by name; a turn picks others."""
-    right = {name: PARAMETERS[name][1][turn % len(PARAMETERS[name][1])] for name in names}
+    own = OWN_VALUES.get(function, {})
+    values = {name: own.get(name, PARAMETERS[name][1]) for name in names}
+    right = {name: values[name][turn % len(values[name])] for name in names}
     if function in OF_KEEPABLE_BOOKS:
         right["book"] = (KEEPABLE, (), KEEPABLE[:3])[turn % 3]
     return right
@@ -128,8 +143,7 @@ class Conventions(unittest.TestCase):
                 if all(PARAMETERS[name][2] for name in chosen):
                     for turn in range(12):
                         self.check_wrong(function, names, chosen, turn)
-            if "value" not in names:
-                self.check_wrong(function, names, names, turn=0)
+            self.check_wrong(function, names, [name for name in names if PARAMETERS[name][2]], turn=0)
 
     def check_wrong(self, function, names, chosen, turn):
         arguments = right_arguments(function, names, turn)
